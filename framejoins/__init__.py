@@ -1,0 +1,1 @@
+"""Framejoins: sounds coded as streams of frames that overlap at their ends."""

@@ -1,0 +1,165 @@
+"""The rules of the language subset that a short program can check; the others are for readers."""
+
+import ast
+import builtins
+import pathlib
+import re
+import unittest
+
+PACKAGE = pathlib.Path(__file__).resolve().parent.parent / "framejoins"
+
+BUILTINS = set(
+    "len range enumerate zip min max sum abs sorted reversed int str bool bytes list tuple dict set frozenset "
+    "isinstance ord repr any all divmod iter next super property staticmethod classmethod Exception ValueError "
+    "TypeError KeyError IndexError LookupError ZeroDivisionError ArithmeticError OverflowError RuntimeError "
+    "NotImplementedError AttributeError StopIteration NotImplemented".split())
+
+METHODS = set(
+    "append clear copy count endswith extend find get index insert isalnum isalpha isdigit islower isspace isupper "
+    "items join keys ljust lower lstrip partition pop remove replace reverse rfind rjust rpartition rsplit rstrip "
+    "setdefault split splitlines startswith strip update upper values zfill bit_length title capitalize swapcase "
+    "casefold center expandtabs removeprefix removesuffix rindex isascii isdecimal isnumeric istitle isidentifier "
+    "isprintable translate sort add discard".split())
+
+BARRED_WORDS = set(
+    "type typing typing_extensions enum Enum IntEnum StrEnum Flag IntFlag Generic Protocol ABC ABCMeta namedtuple "
+    "NamedTuple TypedDict TYPE_CHECKING abstractmethod".split())
+
+BARRED_NAMES = set(
+    "register mro elements open input law version_info with_traceback add_note attrgetter breakpoint builtins compile "
+    "copyright credits delattr dir eval exec exit gc getattr globals hasattr help id importlib license locals "
+    "methodcaller os quit setattr type vars sys".split())
+
+DECORATORS = r"property|staticmethod|classmethod|\w+\.setter"
+
+
+def package_files():
+    return sorted(path for path in PACKAGE.rglob("*") if "__pycache__" not in path.parts)
+
+
+def modules():
+    for path in package_files():
+        if path.is_file():
+            yield path, ast.parse(path.read_text(encoding="utf-8"))
+
+
+def nodes(kinds):
+    for path, tree in modules():
+        for node in ast.walk(tree):
+            if isinstance(node, kinds):
+                yield f"{path.name}:{node.lineno}", node
+
+
+def bound_names(tree):
+    """The names that a module binds at its level, one entry for each binding."""
+    for node in tree.body:
+        if isinstance(node, (ast.FunctionDef, ast.ClassDef)):
+            yield node.name
+        elif isinstance(node, ast.ImportFrom):
+            yield from (alias.name for alias in node.names)
+        elif isinstance(node, ast.Assign):
+            yield node.targets[0].id
+
+
+class LanguageTest(unittest.TestCase):
+
+    def test_files(self):
+        for path in package_files():
+            self.assertRegex(path.name, r"^([a-z][a-z0-9_]*|__init__)\.py$")
+        self.assertTrue((PACKAGE / "__init__.py").is_file())
+
+    def test_characters_and_sizes(self):
+        for path, tree in modules():
+            text = path.read_text(encoding="utf-8")
+            self.assertRegex(text, r"^[ -~\n]*\Z", path.name)
+            lines = text.split("\n")
+            self.assertLess(len(lines), 401, path.name)
+            self.assertLessEqual(max(len(line) for line in lines), 120, path.name)
+        for place, node in nodes(ast.FunctionDef):
+            self.assertLessEqual(node.end_lineno - node.lineno + 1, 40, place)
+
+    def test_words(self):
+        for path, tree in modules():
+            text = path.read_text(encoding="utf-8")
+            self.assertEqual(BARRED_WORDS & set(re.findall(r"\w+", text)), set(), path.name)
+            for part in ("dataclass", "overload", "contextmanager"):
+                self.assertNotIn(part, text, path.name)
+
+    def test_imports(self):
+        for place, node in nodes((ast.Import, ast.ImportFrom)):
+            self.assertIsInstance(node, ast.ImportFrom, place)
+            self.assertEqual(node.level, 0, place)
+            self.assertRegex(node.module, r"^framejoins\.[a-z_]+$", place)
+            source = ast.parse((PACKAGE / f"{node.module.split('.')[1]}.py").read_text(encoding="utf-8"))
+            defined = list(bound_names(source))
+            imported = [alias.name for other in source.body if isinstance(other, ast.ImportFrom)
+                        for alias in other.names]
+            for alias in node.names:
+                self.assertIsNone(alias.asname, place)
+                self.assertIn(alias.name, defined, place)
+                self.assertNotIn(alias.name, imported, place)
+
+    def test_module_level(self):
+        for path, tree in modules():
+            for at, node in enumerate(tree.body):
+                place = f"{path.name}:{node.lineno}"
+                if isinstance(node, ast.Expr):
+                    self.assertEqual(at, 0, place)
+                    self.assertIsInstance(node.value, ast.Constant, place)
+                elif isinstance(node, ast.Assign):
+                    self.assertEqual([type(target) for target in node.targets], [ast.Name], place)
+                    ast.literal_eval(node.value)
+                else:
+                    self.assertIsInstance(node, (ast.ImportFrom, ast.FunctionDef, ast.ClassDef), place)
+            names = list(bound_names(tree))
+            self.assertEqual(sorted(names), sorted(set(names)), path.name)
+
+    def test_statements_and_expressions(self):
+        for place, node in nodes((ast.Global, ast.AsyncFunctionDef, ast.AsyncFor, ast.AsyncWith, ast.Await)):
+            self.fail(f"{place}: {type(node).__name__}")
+        for place, node in nodes((ast.BinOp, ast.AugAssign)):
+            self.assertNotIsInstance(node.op, (ast.Div, ast.MatMult), place)
+            if isinstance(node.op, ast.Pow) and isinstance(node, ast.BinOp):
+                self.assertIsInstance(node.right, ast.Constant, place)
+        for place, node in nodes(ast.Compare):
+            for op, right in zip(node.ops, node.comparators):
+                if isinstance(op, (ast.Is, ast.IsNot)):
+                    self.assertIsInstance(right, ast.Constant, place)
+                    self.assertIn(right.value, (None, True, False), place)
+        for place, node in nodes(ast.Constant):
+            self.assertNotIsInstance(node.value, (float, complex), place)
+            if isinstance(node.value, str):
+                self.assertNotIn("%", node.value, place)
+
+    def test_functions(self):
+        for place, node in nodes((ast.FunctionDef, ast.ClassDef)):
+            for decorator in node.decorator_list:
+                self.assertRegex(ast.unparse(decorator), f"^({DECORATORS})$", place)
+        for place, node in nodes((ast.FunctionDef, ast.Lambda)):
+            self.assertEqual(node.args.posonlyargs, [], place)
+
+    def test_names(self):
+        own = set()
+        for place, node in nodes((ast.FunctionDef, ast.ClassDef, ast.arg, ast.Name)):
+            name = getattr(node, "name", None) or getattr(node, "arg", None) or getattr(node, "id", None)
+            bound = not isinstance(node, ast.Name) or isinstance(node.ctx, ast.Store)
+            if re.match(r"^__[a-z]+__$", name):
+                continue
+            self.assertRegex(name, r"^[A-Za-z][A-Za-z0-9_]*$", place)
+            self.assertNotIn(name, BARRED_NAMES, place)
+            if bound:
+                self.assertFalse(hasattr(builtins, name), place)
+                own.add(name)
+        imported = {alias.name for place, node in nodes(ast.ImportFrom) for alias in node.names}
+        for place, node in nodes(ast.Name):
+            self.assertIn(node.id, own | imported | BUILTINS, place)
+
+    def test_methods(self):
+        own = {node.name for place, node in nodes(ast.FunctionDef)}
+        for place, node in nodes(ast.Call):
+            if isinstance(node.func, ast.Attribute):
+                self.assertIn(node.func.attr, METHODS | own | {"__init__"}, place)
+
+
+if __name__ == "__main__":
+    unittest.main()
