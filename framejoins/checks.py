@@ -1,6 +1,6 @@
 """Checks of arguments that several modules need."""
 
-from framejoins.errors import InvalidNumber, InvalidSound
+from framejoins.errors import InvalidNumber, InvalidPlace, InvalidSound
 
 BLOCK_LIMIT = 64
 
@@ -25,6 +25,15 @@ def check_within(value, low, high):
     """Raise InvalidNumber for a value that is not an integer from low to high."""
     if not is_within(value, low, high):
         raise InvalidNumber(value)
+
+
+def check_stretch(start, end, length):
+    """Raise InvalidPlace for places that are no stretch of a sound of this length."""
+    for place in (start, end):
+        if not is_within(place, 0, length):
+            raise InvalidPlace(place)
+    if end < start:
+        raise InvalidPlace(end)
 
 
 def check_items(values):

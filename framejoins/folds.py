@@ -3,6 +3,7 @@
 from framejoins.checks import check_integer, check_sound, check_within, is_integer, is_within
 from framejoins.errors import InvalidPlan
 
+HARD = (0, 0)
 COEFFICIENTS = ((-1, 2), (-2, 3), (1, -2), (2, -3))
 SHAPE_LIMIT = 3
 WIDTH_LIMIT = 8

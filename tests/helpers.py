@@ -24,12 +24,24 @@ class Case(unittest.TestCase):
             self.assertIs(found, value)
 
 
+class Fetch:
+    """A fetch function that keeps the indexes with which it was called."""
+
+    def __init__(self, records):
+        self.records, self.calls = records, []
+
+    def __call__(self, index):
+        self.calls.append(index)
+        return self.records[index]
+
+
 def sequence(seed):
-    """Endless integers below 2 ** 31 - 1, the same in every run and on every Python."""
-    state = seed + 1
+    """Endless integers below 2 ** 24, the same in every run and on every Python."""
+    state = seed * 1000003 % (2 ** 31 - 2) + 1
     while True:
         state = state * 48271 % (2 ** 31 - 1)
-        yield state
+        # The lowest digits of neighbours depend on each other.
+        yield state >> 7
 
 
 def integers(seed, many, size):
@@ -38,7 +50,7 @@ def integers(seed, many, size):
     source = sequence(seed)
     for place in range(many):
         wide = 0
-        for word in range(8):
-            wide = wide * 2 ** 31 + next(source)
+        for word in range(9):
+            wide = wide * 2 ** 24 + next(source)
         values.append(wide % (2 * size + 1) - size)
     return values

@@ -4,8 +4,7 @@ import unittest
 from framejoins.errors import InvalidNumber, InvalidPlan, InvalidSound
 from framejoins.folds import fold_pair, folded, is_joint, unfold_pair, unfolded
 from helpers import LARGE, NO_INTEGERS, Case, integers
-
-COEFFICIENTS = {0: (-1, 2), 1: (-2, 3), 2: (1, -2), 3: (2, -3)}
+from plain import plainly_folded, three_steps
 
 SMALL = list(range(-13, 14))
 WIDE = [LARGE, -LARGE, LARGE // 3, -(10 ** 59), 10 ** 30 + 1, -(10 ** 30) - 2, 0, 1, -1]
@@ -16,22 +15,6 @@ NEAREST = (
     (8, (8, 3)), (19, (3, 1)), (22, (0, 0)), (23, (0, 0)), (24, (1, 0)), (26, (1, 2)), (32, (5, 3)), (38, (1, 1)),
     (39, (0, 0)),
 )
-
-
-def three_steps(shape, a, b):
-    c, d = COEFFICIENTS[shape]
-    a += (c * b + 2) // 4
-    b += (d * a + 2) // 4
-    a += (c * b + 2) // 4
-    return (a, b)
-
-
-def plainly_folded(values, joints):
-    x = list(values)
-    for p, (width, shape) in joints:
-        for i in range(width):
-            x[p - 1 - i], x[p + i] = three_steps(shape, x[p - 1 - i], x[p + i])
-    return x
 
 
 class JointsTest(unittest.TestCase):

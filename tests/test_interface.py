@@ -2,7 +2,7 @@ import importlib
 import inspect
 import unittest
 
-# The functions of each module with their parameters.
+# The functions of each module with their parameters; those after "*" pass by name only, with their default value.
 FUNCTIONS = {
     "folds": {
         "is_joint": ["value"],
@@ -24,6 +24,26 @@ FUNCTIONS = {
         "read_numbers": ["bits", "length", "coarse", "tables"],
         "mark_of": ["numbers"],
     },
+    "streams": {
+        "is_record": ["value"],
+        "record_size": ["record"],
+    },
+    "encoder": {
+        "encode": ["sound", "plan", "*", ("states", 0)],
+        "even_plan": ["length", "block", "joint", "levels", "step"],
+        "smallest": ["sound", "plans"],
+    },
+    "seeking": {
+        "index_of": ["stream"],
+        "needed_records": ["index", "start", "end"],
+        "read_part": ["index", "fetch", "start", "end"],
+    },
+    "damage": {
+        "unread_frames": ["index", "lost"],
+        "touched": ["index", "lost"],
+        "concealed": ["index", "fetch", "lost"],
+        "salvaged": ["index", "records"],
+    },
 }
 
 # The classes of each module with the parameters of their constructors.
@@ -43,7 +63,42 @@ CLASSES = {
         "LimitExceeded": ["limit"],
         "NothingToUndo": ["count"],
     },
+    "streams": {
+        "Stream": ["records"],
+    },
 }
+
+# The methods of each class with their parameters behind the object, and its properties.
+METHODS = {
+    ("streams", "Stream"): {
+        "sound": [],
+        "block": ["frame"],
+        "numbers": ["frame"],
+        "contents": ["frame"],
+        "tables_before": ["frame"],
+        "tables_after": ["frame"],
+        "size": [],
+        "__eq__": ["other"],
+        "__len__": [],
+        "__repr__": [],
+    },
+}
+PROPERTIES = {
+    ("streams", "Stream"): ["records", "length", "frames"],
+}
+
+
+def listed_parameters(parameters):
+    """The parameters as the tables above list them."""
+    listed = []
+    for parameter in parameters:
+        if parameter.kind == parameter.KEYWORD_ONLY and "*" not in listed:
+            listed.append("*")
+        elif parameter.kind not in (parameter.KEYWORD_ONLY, parameter.POSITIONAL_OR_KEYWORD):
+            listed.append(str(parameter.kind))
+        plain = parameter.default is parameter.empty
+        listed.append(parameter.name if plain else (parameter.name, parameter.default))
+    return listed
 
 
 class InterfaceTest(unittest.TestCase):
@@ -57,16 +112,29 @@ class InterfaceTest(unittest.TestCase):
                 self.assertEqual(found.__module__, module.__name__, name)
                 self.assertEqual(found.__name__, name)
                 signature = inspect.signature(found)
-                self.assertEqual(list(signature.parameters), parameters, name)
-                for parameter in signature.parameters.values():
-                    self.assertEqual(parameter.kind, parameter.POSITIONAL_OR_KEYWORD, name)
-                    self.assertIs(parameter.default, parameter.empty, name)
+                self.assertEqual(listed_parameters(signature.parameters.values()), parameters, name)
 
     def test_functions(self):
         self.check(FUNCTIONS, inspect.isfunction)
 
     def test_classes(self):
         self.check(CLASSES, inspect.isclass)
+
+    def test_methods(self):
+        for (module_name, class_name), methods in METHODS.items():
+            body = vars(getattr(importlib.import_module(f"framejoins.{module_name}"), class_name))
+            for name, parameters in methods.items():
+                self.assertTrue(inspect.isfunction(body[name]), name)
+                signature = inspect.signature(body[name])
+                self.assertEqual(listed_parameters(signature.parameters.values())[1:], parameters, name)
+
+    def test_properties(self):
+        for (module_name, class_name), names in PROPERTIES.items():
+            body = vars(getattr(importlib.import_module(f"framejoins.{module_name}"), class_name))
+            for name in names:
+                self.assertIsInstance(body[name], property, name)
+                self.assertIsNone(body[name].fset, name)
+                self.assertIsNone(body[name].fdel, name)
 
 
 if __name__ == "__main__":

@@ -30,6 +30,9 @@ BARRED_NAMES = set(
     "copyright credits delattr dir eval exec exit gc getattr globals hasattr help id importlib license locals "
     "methodcaller os quit setattr type vars sys".split())
 
+SPECIAL_METHODS = set(
+    "__init__ __eq__ __repr__ __str__ __len__ __lt__ __le__ __gt__ __ge__ __add__ __mul__ __bool__".split())
+
 DECORATORS = r"property|staticmethod|classmethod|\w+\.setter"
 
 
@@ -137,6 +140,37 @@ class LanguageTest(unittest.TestCase):
                 self.assertRegex(ast.unparse(decorator), f"^({DECORATORS})$", place)
         for place, node in nodes((ast.FunctionDef, ast.Lambda)):
             self.assertEqual(node.args.posonlyargs, [], place)
+
+    def test_classes(self):
+        methods, properties, attributes = set(), set(), set()
+        for place, node in nodes(ast.ClassDef):
+            self.assertEqual([type(base) for base in node.bases], [ast.Name] * len(node.bases), place)
+            names = [item.name for item in node.body if isinstance(item, ast.FunctionDef)]
+            self.assertEqual(len(names), len(set(names)), place)
+            for item in node.body:
+                if isinstance(item, ast.FunctionDef):
+                    if re.match(r"^__.*__$", item.name):
+                        self.assertIn(item.name, SPECIAL_METHODS, place)
+                    decorators = [ast.unparse(decorator) for decorator in item.decorator_list]
+                    (properties if "property" in decorators else methods).add(item.name)
+        for place, node in nodes(ast.Attribute):
+            if isinstance(node.ctx, ast.Store):
+                attributes.add(node.attr)
+        for place, node in nodes(ast.Attribute):
+            self.assertIn(node.attr, methods | properties | attributes | METHODS, place)
+        self.assertEqual(attributes & (methods | properties), set())
+        self.assertEqual(properties & (methods | METHODS), set())
+
+    def test_calls_of_builtins(self):
+        compares = any(node.name in ("__eq__", "__len__") for place, node in nodes(ast.FunctionDef))
+        for place, node in nodes(ast.Call):
+            if isinstance(node.func, ast.Name) and node.func.id in ("sum", "min", "max", "sorted", "any", "all"):
+                if compares:
+                    self.assertNotIn(ast.GeneratorExp, [type(argument) for argument in node.args], place)
+            for argument in node.args:
+                if isinstance(argument, ast.Call) and isinstance(argument.func, ast.Name):
+                    if argument.func.id in ("range", "enumerate", "zip", "reversed"):
+                        self.assertIsInstance(node.func, ast.Name, place)
 
     def test_names(self):
         own = set()

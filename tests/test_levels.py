@@ -3,18 +3,10 @@ import unittest
 from framejoins.errors import InvalidNumber, InvalidSound
 from framejoins.levels import coarse_count, join_levels, quantized, split_levels
 from helpers import LARGE, NO_INTEGERS, Case, integers
+from plain import plainly_split
 
 NO_LEVELS = NO_INTEGERS + (-1, 6, LARGE, -LARGE)
 NO_BLOCKS = (None, True, 0, 5, "12", b"12", (1, 2), (1,), (), {}, {1: 2}, {1, 2}, range(3), [], [0] * 65)
-
-
-def plainly_split(values, levels):
-    if levels == 0 or len(values) == 1:
-        return list(values)
-    pairs = [values[at:at + 2] for at in range(0, len(values), 2)]
-    sums = [sum(pair) // len(pair) for pair in pairs]
-    differences = [pair[0] - pair[1] for pair in pairs if len(pair) == 2]
-    return plainly_split(sums, levels - 1) + differences
 
 
 class LevelsTest(Case):

@@ -4,38 +4,12 @@ import unittest
 from framejoins.errors import InvalidNumber, InvalidSound, InvalidTables
 from framejoins.tables import START, is_tables, mark_of, parameter, read_numbers, write_numbers
 from helpers import LARGE, NO_INTEGERS, Case, integers
+from plain import plain_bits, plain_parameter, plainly_written
 
 NO_TABLES = NO_INTEGERS + (0, 5, (2, 1), [(2, 1), (2, 1)], ([2, 1], [2, 1]), ((2, 1),), ((2, 1), (2, 1), (2, 1)),
                            ((2, 1), None), (None, (2, 1)), ((2, 1), (2, 0)), ((2, 16), (2, 1)), ((-1, 1), (2, 1)))
 NO_LISTS = (None, True, 0, "12", b"12", (1, 2), (), {}, {1: 2}, {1, 2}, range(3), [0] * 65)
 EDGES = (((0, 1), (0, 1)), ((0, 15), (1, 15)), ((15, 15), (16, 15)), ((700, 9), (3, 14)), ((10 ** 60 - 1, 1), (0, 15)))
-
-
-def plain_parameter(table):
-    total, count = table
-    return next(k for k in itertools.count() if count * 2 ** k >= total)
-
-
-def plain_bits(u, k):
-    if u // 2 ** k < 20:
-        low = [str(u // 2 ** place % 2) for place in range(k)]
-        return "1" * (u // 2 ** k) + "0" + "".join(reversed(low))
-    digits = bin(u)[2:]
-    return "1" * 20 + "1" * (len(digits) - 1) + "0" + digits
-
-
-def plainly_written(numbers, coarse, tables):
-    now = [list(table) for table in tables]
-    bits = ""
-    for at, number in enumerate(numbers):
-        table = now[0] if at < coarse else now[1]
-        u = 2 * number if number >= 0 else -2 * number - 1
-        bits += plain_bits(u, plain_parameter(table))
-        table[0] += u
-        table[1] += 1
-        if table[1] == 16:
-            table[0], table[1] = table[0] // 2, 8
-    return bits, (tuple(now[0]), tuple(now[1]))
 
 
 class TablesTest(Case):
