@@ -1,8 +1,10 @@
 """Checks of arguments that several modules need."""
 
-from framejoins.errors import InvalidNumber, InvalidPlace, InvalidSound
+from framejoins.errors import InvalidNumber, InvalidPlace, InvalidSound, UnknownName
 
 BLOCK_LIMIT = 64
+NAME_LIMIT = 8
+LETTERS = "abcdefghijklmnopqrstuvwxyz"
 
 
 def is_integer(value):
@@ -13,6 +15,17 @@ def is_integer(value):
 def is_within(value, low, high):
     """Return whether the value is an integer from low to high."""
     return is_integer(value) and low <= value <= high
+
+
+def is_name(value):
+    """Return whether the value is a string of 1 to 8 lowercase letters."""
+    return isinstance(value, str) and 1 <= len(value) <= NAME_LIMIT and value.strip(LETTERS) == ""
+
+
+def check_name(value):
+    """Raise UnknownName for a value that is not a name."""
+    if not is_name(value):
+        raise UnknownName(value)
 
 
 def check_integer(value):

@@ -12,13 +12,13 @@ class Case(unittest.TestCase):
     """A test case that knows the errors of the package."""
 
     def fails(self, kind, field, value, call, /, *args, **named):
-        """The call raises exactly this kind of error, with this very value in its field."""
+        """The call raises exactly this kind of error, with this very value in its field, or an equal number or string."""
         with self.assertRaises(kind) as caught:
             call(*args, **named)
         self.assertIs(type(caught.exception), kind)
         found = getattr(caught.exception, field)
         self.assertIs(type(found), type(value))
-        if type(value) is int:
+        if type(value) in (int, str):
             self.assertEqual(found, value)
         else:
             self.assertIs(found, value)

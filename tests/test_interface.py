@@ -44,6 +44,19 @@ FUNCTIONS = {
         "concealed": ["index", "fetch", "lost"],
         "salvaged": ["index", "records"],
     },
+    "scripts": {
+        "parse_script": ["text"],
+        "script_text": ["statements"],
+        "clip_of": ["text", "lengths"],
+    },
+    "edits": {
+        "joined": ["first", "second"],
+        "repeated": ["stream", "n"],
+        "stretch": ["stream", "start", "end"],
+    },
+    "papers": {
+        "check_edit": ["streams", "clip", "records", "rows"],
+    },
 }
 
 # The classes of each module with the parameters of their constructors.
@@ -66,9 +79,12 @@ CLASSES = {
     "streams": {
         "Stream": ["records"],
     },
+    "edits": {
+        "Edit": ["streams", "clip"],
+    },
 }
 
-# The methods of each class with their parameters behind the object, and its properties.
+# The methods of each class with their parameters behind the object, its static methods, and its properties.
 METHODS = {
     ("streams", "Stream"): {
         "sound": [],
@@ -82,9 +98,38 @@ METHODS = {
         "__len__": [],
         "__repr__": [],
     },
+    ("clips", "Clip"): {
+        "names": [],
+        "pieces": [],
+        "cut": ["start", "end"],
+        "gained": ["top", "bottom"],
+        "sample": ["place", "sounds"],
+        "__add__": ["other"],
+        "__mul__": ["other"],
+        "__eq__": ["other"],
+    },
+    ("edits", "Edit"): {
+        "record": ["index"],
+        "sample": ["place"],
+        "row": ["index"],
+        "kept": [],
+        "renewed": [],
+        "all_records": [],
+        "all_rows": [],
+        "stream": [],
+    },
+}
+STATIC_METHODS = {
+    ("clips", "Clip"): {
+        "part": ["name", "start", "end"],
+        "silence": ["count"],
+        "samples": ["sound"],
+    },
 }
 PROPERTIES = {
     ("streams", "Stream"): ["records", "length", "frames"],
+    ("clips", "Clip"): ["length"],
+    ("edits", "Edit"): ["length", "total"],
 }
 
 
@@ -127,6 +172,14 @@ class InterfaceTest(unittest.TestCase):
                 self.assertTrue(inspect.isfunction(body[name]), name)
                 signature = inspect.signature(body[name])
                 self.assertEqual(listed_parameters(signature.parameters.values())[1:], parameters, name)
+
+    def test_static_methods(self):
+        for (module_name, class_name), methods in STATIC_METHODS.items():
+            body = vars(getattr(importlib.import_module(f"framejoins.{module_name}"), class_name))
+            for name, parameters in methods.items():
+                self.assertIsInstance(body[name], staticmethod, name)
+                signature = inspect.signature(body[name].__func__)
+                self.assertEqual(listed_parameters(signature.parameters.values()), parameters, name)
 
     def test_properties(self):
         for (module_name, class_name), names in PROPERTIES.items():

@@ -111,11 +111,71 @@ class LanguageTest(unittest.TestCase):
                     self.assertIsInstance(node.value, ast.Constant, place)
                 elif isinstance(node, ast.Assign):
                     self.assertEqual([type(target) for target in node.targets], [ast.Name], place)
-                    ast.literal_eval(node.value)
+                    self.check_plain_value(node.value, place, list(bound_names(tree))[:at])
                 else:
                     self.assertIsInstance(node, (ast.ImportFrom, ast.FunctionDef, ast.ClassDef), place)
             names = list(bound_names(tree))
             self.assertEqual(sorted(names), sorted(set(names)), path.name)
+
+    def check_plain_value(self, value, place, above):
+        """Plain values, powers of them with a literal exponent, and tuples, lists and dicts of these and of functions."""
+        if isinstance(value, ast.Name):
+            self.assertIn(value.id, above, place)
+        elif isinstance(value, (ast.Tuple, ast.List)):
+            for item in value.elts:
+                self.check_plain_value(item, place, above)
+        elif isinstance(value, ast.Dict):
+            for item in value.keys + value.values:
+                self.assertNotIsInstance(item, (ast.List, ast.Dict), place)
+                self.check_plain_value(item, place, above)
+        elif isinstance(value, ast.BinOp):
+            self.assertIsInstance(value.op, ast.Pow, place)
+            self.assertIsInstance(value.left, ast.Constant, place)
+            self.assertIsInstance(value.right, ast.Constant, place)
+        else:
+            ast.literal_eval(value)
+
+    def test_names_of_imports_and_classes_are_not_used_again(self):
+        for path, tree in modules():
+            taken = {alias.name for node in tree.body if isinstance(node, ast.ImportFrom) for alias in node.names}
+            taken |= {node.name for node in tree.body if isinstance(node, (ast.ClassDef, ast.FunctionDef))}
+            for node in ast.walk(tree):
+                place = f"{path.name}:{getattr(node, 'lineno', 0)}"
+                if isinstance(node, ast.arg):
+                    self.assertNotIn(node.arg, taken, place)
+                elif isinstance(node, ast.Name) and isinstance(node.ctx, ast.Store):
+                    self.assertNotIn(node.id, taken, place)
+
+    def test_operators_change_nothing(self):
+        """No function that an operator or a property can reach changes a list by a method or an item."""
+        functions, methods = {}, []
+        for path, tree in modules():
+            for node in ast.walk(tree):
+                if isinstance(node, ast.FunctionDef):
+                    functions.setdefault(node.name, []).append(node)
+                    decorated = "property" in [ast.unparse(decorator) for decorator in node.decorator_list]
+                    if decorated or re.match("^__(?!init__)[a-z]+__$", node.name):
+                        methods.append(node)
+        reached = []
+        while methods:
+            node = methods.pop()
+            if node not in reached:
+                reached.append(node)
+                for call in ast.walk(node):
+                    if isinstance(call, ast.Call):
+                        name = getattr(call.func, "id", None) or getattr(call.func, "attr", None)
+                        methods += functions.get(name, [])
+        self.assertGreater(len(reached), 10)
+        for node in reached:
+            for inner in ast.walk(node):
+                if isinstance(inner, (ast.Assign, ast.AugAssign)):
+                    targets = inner.targets if isinstance(inner, ast.Assign) else [inner.target]
+                    self.assertEqual([item for item in targets if isinstance(item, (ast.Attribute, ast.Subscript))], [],
+                                     node.name)
+                self.assertFalse(isinstance(inner, ast.AugAssign), node.name)
+                if isinstance(inner, ast.Call) and isinstance(inner.func, ast.Attribute):
+                    self.assertNotIn(inner.func.attr, ("append", "extend", "pop", "update", "clear", "sort", "insert",
+                                                       "remove", "reverse", "setdefault"), node.name)
 
     def test_statements_and_expressions(self):
         for place, node in nodes((ast.Global, ast.AsyncFunctionDef, ast.AsyncFor, ast.AsyncWith, ast.Await)):
