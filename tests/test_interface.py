@@ -57,6 +57,17 @@ FUNCTIONS = {
     "papers": {
         "check_edit": ["streams", "clip", "records", "rows"],
     },
+    "budgets": {
+        "least_delay": ["sizes", "rate"],
+        "frame_sizes": ["stream"],
+        "edit_delay": ["edit", "rate"],
+        "padding": ["sizes", "rate", "delay", "store"],
+    },
+    "files": {
+        "stream_text": ["stream"],
+        "recovered_records": ["text"],
+        "parse_stream": ["text"],
+    },
 }
 
 # The classes of each module with the parameters of their constructors.
@@ -81,6 +92,12 @@ CLASSES = {
     },
     "edits": {
         "Edit": ["streams", "clip"],
+    },
+    "studio": {
+        "Studio": [],
+    },
+    "console": {
+        "Console": ["studio"],
     },
 }
 
@@ -117,6 +134,24 @@ METHODS = {
         "all_records": [],
         "all_rows": [],
         "stream": [],
+    },
+    ("studio", "Studio"): {
+        "put": ["name", "stream"],
+        "drop": ["name"],
+        "edit": ["name", "script"],
+        "stream": ["name"],
+        "names": [],
+        "undo": [("count", 1)],
+        "redo": [("count", 1)],
+        "history": [],
+        "perform": ["calls"],
+        "clone": [],
+        "__eq__": ["other"],
+        "__len__": [],
+    },
+    ("console", "Console"): {
+        "execute": ["command"],
+        "__len__": [],
     },
 }
 STATIC_METHODS = {

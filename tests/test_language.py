@@ -165,7 +165,7 @@ class LanguageTest(unittest.TestCase):
                     if isinstance(call, ast.Call):
                         name = getattr(call.func, "id", None) or getattr(call.func, "attr", None)
                         methods += functions.get(name, [])
-        self.assertGreater(len(reached), 10)
+        self.assertGreater(len(reached), 20)
         for node in reached:
             for inner in ast.walk(node):
                 if isinstance(inner, (ast.Assign, ast.AugAssign)):
