@@ -60,7 +60,7 @@ def pieces_under(pieces, starts, start, end):
     """Return the pieces that hold samples of a stretch, each with its place."""
     under = []
     at = last_at_most(starts, start)
-    while at < len(pieces) and starts[at] < end:
+    while starts[at] < end:
         under.append((starts[at], pieces[at]))
         at += 1
     return under

@@ -125,7 +125,8 @@ def read_replace(reader):
 
 def read_cut(reader):
     """Return a cut, from its operand on."""
-    return ("cut", *read_bounds(reader))
+    tree, start, end = read_bounds(reader)
+    return ("cut", tree, start, end)
 
 
 def read_bounds(reader):

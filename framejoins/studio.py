@@ -122,9 +122,11 @@ class Studio:
 
     def go_on(self, operation, streams):
         """Go on to a state behind an operation, instead of the cancelled ones."""
-        self.operations = self.operations[:self.done] + [operation]
-        self.states = self.states[:self.done + 1] + [streams]
+        del self.operations[self.done:]
+        self.operations.append(operation)
         self.done += 1
+        del self.states[self.done:]
+        self.states.append(streams)
 
 
 def check_count(count, many):

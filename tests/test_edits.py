@@ -232,6 +232,22 @@ class UnitsTest(Case):
                          [("frame", 7), ("state", START), ("frame", 32), ("state", START)])
 
 
+    def test_silences_beside_old_joints(self):
+        # Where the old sound is silent, too, the frame beside a silence stays with its old joint.
+        sound, plan = [0] * 8 + integers(5, 8, 9), [(8, (4, 1), 1, 1), (8, HARD, 1, 1)]
+        streams = {"a": encode(sound, plan), "b": encode(sound[::-1], plan)}
+        for count in (4, 31, 32, 36, 64, 68, 96, 100, 128, 32 * 10 ** 20, 32 * 10 ** 20 + 4):
+            edit = Edit(streams, Clip.silence(count) + Clip.part("a", 8, 16))
+            self.assertEqual((edit.kept(), edit.row(edit.total - 1)), (1, ("kept", "a", 1)))
+            self.assertEqual(edit.record(edit.total - 3)[2], (4, 1))
+        for count in (3, 33, 67, 97):
+            self.assertEqual(Edit(streams, Clip.silence(count) + Clip.part("a", 8, 16)).kept(), 0)
+        for count in (4, 31, 32, 33, 64, 65, 96, 97, 32 * 10 ** 20, 32 * 10 ** 20 + 1):
+            edit = Edit(streams, Clip.part("b", 0, 8) + Clip.silence(count))
+            self.assertEqual((edit.kept(), edit.row(0), edit.record(0)[2]), (1, ("kept", "b", 0), (4, 1)))
+        self.assertEqual(Edit(streams, Clip.part("b", 0, 8) + Clip.silence(3)).kept(), 0)
+
+
 class LongTest(Case):
 
     def test_repeats_against_few_copies(self):
@@ -280,6 +296,29 @@ class LongTest(Case):
                                  one.row(one.total - period + index))
             for place in range(15):
                 self.assertEqual(great.sample(copy * 15 + place), one.sample(place))
+
+    def test_copies_that_need_no_state_records(self):
+        # Behind this frame the tables are those before it, so only the first copy of it may need a state record.
+        tables = ((0, 8), (2, 1))
+        record, behind = plain_record((8, HARD, 0, 1), [0] * 8, tables)
+        self.assertEqual(behind, tables)
+        s = Stream([("state", tables), record])
+        made, state, kept = ("new", "made"), ("state",), ("kept", "a", 0)
+        part, one = Clip.part("a", 0, 8), Clip.samples([1])
+        edit = Edit({"a": s}, one + part * GREAT + one)
+        self.assertEqual((edit.total, edit.kept()), (GREAT + 4, GREAT))
+        for index, row in ((0, made), (1, state), (2, kept), (3, kept), (GREAT // 2, kept), (GREAT, kept),
+                           (GREAT + 1, kept), (GREAT + 2, state), (GREAT + 3, made)):
+            self.assertEqual(edit.row(index), row)
+        self.assertEqual([edit.record(index) for index in (1, 2, GREAT + 2)],
+                         [("state", tables), record, ("state", START)])
+        edit = Edit({"a": s}, part * GREAT)
+        self.assertEqual((edit.total, edit.row(0), edit.row(1), edit.row(GREAT)), (GREAT + 1, state, kept, kept))
+        edit = Edit({"a": s}, (one + part * 3) * GREAT)
+        self.assertEqual(edit.total, 6 * GREAT - 1)
+        rows = [made, state, kept, kept, kept, state]
+        for first in (0, 6, 6 * 10 ** 29, 6 * GREAT - 12):
+            self.assertEqual([edit.row(first + at) for at in range(6)], rows)
 
     def test_repeats_in_repeats(self):
         s = even(12, 5, (2, 1), states=2)

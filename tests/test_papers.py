@@ -225,6 +225,23 @@ class HandTest(Case):
         self.assertIs(check_edit({"a": s}, clip, [("state", START), first], [("state",), ("kept", "a", 0)]), True)
         self.assertIs(check_edit({"a": s}, clip, [("state", START), first], [("state",), ("new", "left")]), False)
 
+    def test_an_equal_record_with_other_values_is_not_kept(self):
+        # With other tables the same bits, with the same mark, are those of other numbers.
+        layout, tables, others = (5, HARD, 0, 1), ((33, 1), (2, 1)), ((9, 1), (2, 1))
+        values, worth = [5, -3, -8, -9, 0], [1, 4, -7, 16, 8]
+        record = plain_record(layout, values, tables)[0]
+        self.assertEqual(record, plain_record(layout, worth, others)[0])
+        # What stands before the joint is such that the samples behind it are the same all the same.
+        before = [2 * (new - old) + (2 - new) // 4 for old, new in zip(values, worth)][::-1]
+        stream = Stream([plain_record((5, (5, 0), 0, 1), before, START)[0], ("state", others), record])
+        self.assertEqual(stream.sound()[5:], values)
+        clip = Clip.samples(stream.sound()[:5]) + Clip.part("a", 0, 5)
+        streams = {"a": Stream([("state", tables), record])}
+        for row, good in ((("kept", "a", 0), False), (("new", "left"), True), (("new", "joint"), False),
+                          (("new", "right"), False), (("new", "rest"), False), (("new", "made"), False)):
+            rows = [("new", "made"), ("state",), row]
+            self.assertIs(check_edit(streams, clip, stream.records, rows), good, row)
+
     def test_each_reason_by_itself(self):
         # All joints changed: the frame in the middle differs at both ends, and in its right joint.
         other = encode(self.sound, [(4, (2, 2), 1, 1), (4, (2, 3), 1, 1), (4, HARD, 1, 1)])
@@ -243,6 +260,10 @@ class HandTest(Case):
             stream = encode(sound, [(length, HARD, 0, 1) for length in lengths])
             return self.check(stream.records, [("new", row) for row in rows], clip)
 
+        for word in ("kept", "state", "NEW", "made", "", None, 1, True):
+            records = encode([0] * 4, [(4, HARD, 0, 1)]).records
+            self.assertIs(self.check(records, [(word, "made")], Clip.silence(4)), False)
+            self.assertIs(self.check(records, [("new", word)], Clip.silence(4)), word == "made")
         self.assertIs(told([4, 4, 4, 2], ["made", "made", "joint", "made"]), True)
         self.assertIs(told([6, 2, 6], ["made", "made", "rest"]), True)
         self.assertIs(told([8, 3, 3], ["made", "rest", "rest"]), True)

@@ -298,6 +298,11 @@ class ErrorsTest(Case):
         self.fails(ScriptError, "line", 1, parse_script, "return " + "(" * 20 + "silence(1)" + ")" * 20)
         self.fails(ScriptError, "line", 1, parse_script, "return " + "(" * 20 + "a[0:1]" + ")" * 20)
         self.assertEqual(parse_script("return " + " + ".join(["(a)"] * 40))[0][0], "return")
+        # Brackets that are closed again do not count, and make no room for more.
+        for many, before in ((1, "(a) + "), (1, "a[:] + "), (5, "(a)[:] + "), (3, "silence(1) + ")):
+            text = "return " + before * many + "(" * 20 + "a" + ")" * 20
+            self.assertEqual(parse_script(text + ";")[0][0], "return")
+            self.fails(ScriptError, "line", 1, parse_script, text.replace("(a))", "((a)))"))
 
     def test_tokens_of_a_statement(self):
         for many in range(1, 100):
